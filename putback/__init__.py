@@ -1,0 +1,1 @@
+"""Putback: views of a source, and the way back."""

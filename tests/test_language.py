@@ -1,0 +1,153 @@
+"""Holds the package to those rules of its language that can be seen in one file by itself."""
+
+import ast
+import builtins
+import pathlib
+import re
+import unittest
+
+PACKAGE = pathlib.Path(__file__).resolve().parent.parent / "putback"
+
+NODES = """
+Module Expr Import ImportFrom alias FunctionDef arguments arg ClassDef Lambda
+Assign AugAssign If While For Return Break Continue Pass Raise Try ExceptHandler Call keyword
+Constant JoinedStr FormattedValue List Tuple Dict Set ListComp comprehension IfExp
+Name Attribute Subscript Slice Load Store BinOp UnaryOp BoolOp Compare
+Add Sub Mult FloorDiv Mod Pow BitAnd BitOr BitXor LShift RShift Invert USub UAdd Not And Or
+Eq NotEq Lt LtE Gt GtE In NotIn Is IsNot
+""".split()
+
+OWN_OF_PYTHON = """
+len range enumerate zip min max sum abs sorted reversed int str bool list tuple dict set frozenset isinstance ord repr
+any all divmod Exception ValueError TypeError KeyError IndexError LookupError ZeroDivisionError ArithmeticError
+OverflowError RuntimeError NotImplementedError StopIteration AttributeError
+""".split()
+
+METHODS = """
+append clear copy count endswith extend find get index insert isalnum isalpha isdigit islower isspace isupper items
+join keys ljust lower lstrip partition pop remove replace reverse rfind rjust rpartition rsplit rstrip setdefault split
+splitlines startswith strip update upper values zfill bit_length
+""".split()
+
+EVERY_NAME_OF_PYTHON = [name for name in dir(builtins) if not name.startswith("_")]
+
+DUNDERS = ["__init__", "__eq__", "__repr__", "__str__", "__len__"]
+
+WORDS_NOWHERE = re.compile(
+    r"\b(type|typing|typing_extensions|enum|Enum|IntEnum|StrEnum|Flag|IntFlag|Generic|Protocol|ABC|ABCMeta|namedtuple"
+    r"|NamedTuple|TypedDict|TYPE_CHECKING|abstractmethod)\b|dataclass|overload|contextmanager"
+)
+
+NAMES_NOWHERE = """
+register mro elements open input version_info with_traceback add_note attrgetter breakpoint compile delattr dir eval
+exec exit getattr globals hasattr help id importlib locals methodcaller os quit setattr super sys vars builtins gc
+format format_map chr
+""".split()
+
+
+def sources():
+    return sorted(PACKAGE.glob("*.py"))
+
+
+def trees():
+    return [(path.name, ast.parse(path.read_text())) for path in sources()]
+
+
+def nodes():
+    return [(f"{name}:{getattr(node, 'lineno', 0)}", node) for name, tree in trees() for node in ast.walk(tree)]
+
+
+def bound_names(node):
+    if isinstance(node, ast.Name) and isinstance(node.ctx, ast.Store):
+        return [node.id]
+    if isinstance(node, ast.Attribute) and isinstance(node.ctx, ast.Store):
+        return [node.attr]
+    if isinstance(node, (ast.FunctionDef, ast.ClassDef)):
+        return [node.name]
+    if isinstance(node, ast.arg):
+        return [node.arg]
+    if isinstance(node, ast.ExceptHandler) and node.name:
+        return [node.name]
+    return []
+
+
+class LanguageTest(unittest.TestCase):
+    def test_files(self):
+        for path in PACKAGE.iterdir():
+            if path.name != "__pycache__":
+                self.assertRegex(path.name, r"^([a-z][a-z0-9_]*|__init__|__main__)\.py$")
+                self.assertNotIn(path.stem, EVERY_NAME_OF_PYTHON)
+
+    def test_size_and_signs(self):
+        for path in sources():
+            lines = path.read_text().split("\n")
+            self.assertLessEqual(len(lines), 400, path.name)
+            for number, line in enumerate(lines, start=1):
+                self.assertRegex(line, r"^[ -~]{0,120}$", f"{path.name}:{number}")
+                self.assertIsNone(WORDS_NOWHERE.search(line), f"{path.name}:{number}")
+
+    def test_the_forms_of_code(self):
+        for place, node in nodes():
+            self.assertIn(node.__class__.__name__, NODES, place)
+            if isinstance(node, ast.Assign):
+                self.assertEqual(len(node.targets), 1, place)
+            if isinstance(node, (ast.For, ast.While)):
+                self.assertEqual(node.orelse, [], place)
+            if isinstance(node, ast.Try):
+                self.assertEqual(node.finalbody, [], place)
+            if isinstance(node, ast.Constant):
+                self.assertIsInstance(node.value, (int, str, bool, type(None)), place)
+            if isinstance(node, ast.ListComp):
+                self.assertLessEqual(len(node.generators) + len(node.generators[0].ifs), 2, place)
+
+    def test_functions_and_classes(self):
+        for place, node in nodes():
+            if isinstance(node, ast.FunctionDef):
+                self.assertLessEqual(node.end_lineno - node.lineno + 1, 40, place)
+                self.assertEqual(node.decorator_list, [], place)
+                given = node.args
+                self.assertEqual([given.vararg, given.kwarg, given.kwonlyargs, given.posonlyargs], [None, None, [], []])
+            if isinstance(node, ast.ClassDef):
+                self.assertLessEqual(len(node.bases), 1, place)
+                self.assertEqual(node.decorator_list + node.keywords, [], place)
+                for part in node.body:
+                    self.assertIsInstance(part, (ast.FunctionDef, ast.Pass), place)
+
+    def test_imports(self):
+        for place, node in nodes():
+            self.assertNotIsInstance(node, ast.Import, place)
+            if isinstance(node, ast.ImportFrom):
+                self.assertEqual(node.level, 0, place)
+                self.assertRegex(node.module, r"^putback\.[a-z]+$", place)
+
+    def test_names(self):
+        for place, node in nodes():
+            for name in bound_names(node):
+                if name not in DUNDERS:
+                    self.assertRegex(name, r"^[A-Za-z][A-Za-z0-9_]*$", place)
+                self.assertNotIn(name, NAMES_NOWHERE, place)
+                self.assertNotIn(name, EVERY_NAME_OF_PYTHON, place)
+            if isinstance(node, ast.Name) and node.id in EVERY_NAME_OF_PYTHON:
+                self.assertIn(node.id, OWN_OF_PYTHON, place)
+
+    def test_attributes(self):
+        own = [name for place, node in nodes() for name in bound_names(node)]
+        for place, node in nodes():
+            if isinstance(node, ast.Attribute):
+                self.assertNotIn(node.attr, NAMES_NOWHERE, place)
+                if isinstance(node.ctx, ast.Load):
+                    self.assertIn(node.attr, METHODS + DUNDERS + own, place)
+
+    def test_is_stands_beside_none_true_false(self):
+        for place, node in nodes():
+            if isinstance(node, ast.Compare) and any(isinstance(op, (ast.Is, ast.IsNot)) for op in node.ops):
+                self.assertIsInstance(node.comparators[0], ast.Constant, place)
+
+    def test_texts(self):
+        for place, node in nodes():
+            if isinstance(node, ast.Constant) and isinstance(node.value, str):
+                self.assertNotIn("%", node.value, place)
+
+
+if __name__ == "__main__":
+    unittest.main()

@@ -31,6 +31,10 @@ splitlines startswith strip update upper values zfill bit_length
 
 EVERY_NAME_OF_PYTHON = [name for name in dir(builtins) if not name.startswith("_")]
 
+WALKED = ["zip", "enumerate", "reversed", "range", "items", "keys", "values"]
+
+WALKERS = ["list", "tuple", "dict", "sorted", "sum", "any", "all", "enumerate", "zip"]
+
 DUNDERS = ["__init__", "__eq__", "__repr__", "__str__", "__len__"]
 
 WORDS_NOWHERE = re.compile(
@@ -69,6 +73,32 @@ def bound_names(node):
     if isinstance(node, ast.ExceptHandler) and node.name:
         return [node.name]
     return []
+
+
+def called(node):
+    if isinstance(node.func, ast.Name):
+        return node.func.id
+    return node.func.attr if isinstance(node.func, ast.Attribute) else ""
+
+
+def walked_on_the_spot(tree):
+    spots = []
+    for node in ast.walk(tree):
+        if isinstance(node, (ast.For, ast.comprehension)):
+            spots.append(node.iter)
+        if isinstance(node, ast.Call) and called(node) in WALKERS + ["join"]:
+            spots.extend(node.args[:1])
+        if isinstance(node, ast.Call) and called(node) in ["min", "max"] and len(node.args) == 1:
+            spots.extend(node.args)
+    return spots
+
+
+def imports_of(tree):
+    return [node for node in tree.body if isinstance(node, ast.ImportFrom)]
+
+
+def module_file(node):
+    return node.module.partition(".")[2] + ".py"
 
 
 class LanguageTest(unittest.TestCase):
@@ -119,6 +149,62 @@ class LanguageTest(unittest.TestCase):
             if isinstance(node, ast.ImportFrom):
                 self.assertEqual(node.level, 0, place)
                 self.assertRegex(node.module, r"^putback\.[a-z]+$", place)
+
+    def test_imports_come_from_the_file_that_defines_the_name(self):
+        all_trees = dict(trees())
+        for name, tree in all_trees.items():
+            for node in imports_of(tree):
+                defined = [part.name for part in all_trees[module_file(node)].body if hasattr(part, "name")]
+                for alias in node.names:
+                    self.assertIn(alias.name, defined, name)
+                    self.assertIsNone(alias.asname, name)
+
+    def test_no_two_files_draw_from_one_another(self):
+        draws = {name: [module_file(node) for node in imports_of(tree)] for name, tree in trees()}
+        while draws:
+            free = [name for name, drawn in draws.items() if not any(other in draws for other in drawn)]
+            self.assertNotEqual(free, [], draws)
+            draws = {name: drawn for name, drawn in draws.items() if name not in free}
+
+    def test_no_parameter_and_no_local_is_called_like_a_class_or_an_import(self):
+        for name, tree in trees():
+            taken = [alias.name for node in imports_of(tree) for alias in node.names]
+            taken += [node.name for node in tree.body if isinstance(node, ast.ClassDef)]
+            for node in ast.walk(tree):
+                if isinstance(node, (ast.Name, ast.arg)):
+                    for bound in bound_names(node):
+                        self.assertNotIn(bound, taken, f"{name}:{node.lineno}")
+
+    def test_no_name_is_a_method_here_and_a_value_there(self):
+        methods = []
+        stored = []
+        for place, node in nodes():
+            if isinstance(node, ast.ClassDef):
+                methods.extend([part.name for part in node.body if isinstance(part, ast.FunctionDef)])
+            if isinstance(node, ast.Attribute) and isinstance(node.ctx, ast.Store):
+                stored.append(node.attr)
+        self.assertEqual(set(methods) & set(stored), set())
+
+    def test_annotations(self):
+        for place, node in nodes():
+            if isinstance(node, ast.FunctionDef):
+                self.assertIsNone(node.returns, place)
+            if isinstance(node, ast.arg):
+                self.assertIsNone(node.annotation, place)
+
+    def test_handlers_name_refusals_of_the_program(self):
+        errors = [node.name for node in dict(trees())["errors.py"].body if isinstance(node, ast.ClassDef)]
+        for place, node in nodes():
+            if isinstance(node, ast.ExceptHandler):
+                self.assertIsInstance(node.type, ast.Name, place)
+                self.assertIn(node.type.id, errors + ["KeyError"], place)
+
+    def test_walked_at_once(self):
+        for name, tree in trees():
+            spots = walked_on_the_spot(tree)
+            for node in ast.walk(tree):
+                if isinstance(node, ast.Call) and called(node) in WALKED:
+                    self.assertIn(node, spots, f"{name}:{node.lineno}")
 
     def test_names(self):
         for place, node in nodes():

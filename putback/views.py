@@ -1,0 +1,89 @@
+"""Views: the plain view, which all views stand under, and chains of views."""
+
+from putback.errors import CantPut, NoView
+from putback.values import misfit
+
+
+def worse(one, other):
+    for grade in ("loose", "firm"):
+        if one == grade or other == grade:
+            return grade
+    return "full"
+
+
+def ask_fit(kind, seen):
+    place = misfit(kind, seen)
+    if place is not None:
+        raise CantPut(place)
+
+
+class View:
+    def behind(self, kind):
+        return kind
+
+    def see(self, kind, source):
+        return source
+
+    def put(self, kind, source, seen):
+        ask_fit(kind, seen)
+        return seen
+
+    def grade(self):
+        return "full"
+
+    def keeps(self, name):
+        return True
+
+
+class Chain(View):
+    def __init__(self, steps):
+        # A list of its own: the one handed in may be changed later.
+        self.steps = list(steps)
+
+    def behind(self, kind):
+        return self.kinds_row(kind)[-1]
+
+    def see(self, kind, source):
+        return self.seen_row(kind, source)[-1]
+
+    def put(self, kind, source, seen):
+        return self.put_row(kind, source, seen)[0]
+
+    def grade(self):
+        worst = "full"
+        for step in self.steps:
+            worst = worse(worst, step.grade())
+        return worst
+
+    def keeps(self, name):
+        return all([step.keeps(name) for step in self.steps])
+
+    def kinds_row(self, kind):
+        kinds = [kind]
+        for number, step in enumerate(self.steps):
+            try:
+                kinds.append(step.behind(kinds[number]))
+            except NoView as e:
+                raise NoView([number] + e.way) from None
+        return kinds
+
+    def seen_row(self, kind, source):
+        kinds = self.kinds_row(kind)
+        shown = [source]
+        for number, step in enumerate(self.steps):
+            shown.append(step.see(kinds[number], shown[number]))
+        return shown
+
+    def put_row(self, kind, source, seen):
+        if len(self.steps) == 0:
+            ask_fit(kind, seen)
+        kinds = self.kinds_row(kind)
+        shown = self.seen_row(kind, source)
+        told = [seen]
+        for number in range(len(self.steps) - 1, -1, -1):
+            try:
+                new = self.steps[number].put(kinds[number], shown[number], told[0])
+            except CantPut as e:
+                raise CantPut([number] + e.way) from None
+            told = [new] + told
+        return told

@@ -2,7 +2,7 @@
 
 from putback.errors import NoPaper
 from putback.kinds import is_plain, kind_at
-from putback.values import in_order, misfit
+from putback.values import by_key, in_order, misfit
 
 
 def done(kind, paper, value):
@@ -166,13 +166,6 @@ def rows_paper(path, kind, old, new):
         else:
             paper.extend(record_paper(path + (key,), kind[3], old_rows[key], new_rows[key]))
     return paper
-
-
-def by_key(kind, rows):
-    found = {}
-    for row in rows:
-        found[row[kind[1]]] = row
-    return found
 
 
 def tree_paper(path, kind, old, new):

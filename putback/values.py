@@ -132,3 +132,10 @@ def rank(kind, row):
 
 def in_order(kind, rows):
     return sorted(rows, key=lambda row: rank(kind, row))
+
+
+def by_key(kind, rows):
+    found = {}
+    for row in rows:
+        found[row[kind[1]]] = row
+    return found

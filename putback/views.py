@@ -17,6 +17,25 @@ def ask_fit(kind, seen):
         raise CantPut(place)
 
 
+def ask_stands(stands):
+    if not stands:
+        raise NoView([])
+
+
+def behind_inner(ahead, inner, kind):
+    try:
+        return inner.behind(kind)
+    except NoView as e:
+        raise NoView(ahead + e.way) from None
+
+
+def put_inner(ahead, inner, kind, source, seen):
+    try:
+        return inner.put(kind, source, seen)
+    except CantPut as e:
+        raise CantPut(ahead + e.way) from None
+
+
 class View:
     def behind(self, kind):
         return kind
@@ -61,10 +80,7 @@ class Chain(View):
     def kinds_row(self, kind):
         kinds = [kind]
         for number, step in enumerate(self.steps):
-            try:
-                kinds.append(step.behind(kinds[number]))
-            except NoView as e:
-                raise NoView([number] + e.way) from None
+            kinds.append(behind_inner([number], step, kinds[number]))
         return kinds
 
     def seen_row(self, kind, source):
@@ -81,9 +97,5 @@ class Chain(View):
         shown = self.seen_row(kind, source)
         told = [seen]
         for number in range(len(self.steps) - 1, -1, -1):
-            try:
-                new = self.steps[number].put(kinds[number], shown[number], told[0])
-            except CantPut as e:
-                raise CantPut([number] + e.way) from None
-            told = [new] + told
+            told = [put_inner([number], self.steps[number], kinds[number], shown[number], told[0])] + told
         return told

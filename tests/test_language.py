@@ -93,6 +93,12 @@ def walked_on_the_spot(tree):
     return spots
 
 
+def parts_of_a_set(node):
+    if isinstance(node, ast.BinOp):
+        return parts_of_a_set(node.left) + parts_of_a_set(node.right)
+    return [node]
+
+
 def imports_of(tree):
     return [node for node in tree.body if isinstance(node, ast.ImportFrom)]
 
@@ -205,6 +211,19 @@ class LanguageTest(unittest.TestCase):
             for node in ast.walk(tree):
                 if isinstance(node, ast.Call) and called(node) in WALKED:
                     self.assertIn(node, spots, f"{name}:{node.lineno}")
+
+    def test_sets_are_neither_kept_nor_walked(self):
+        for name, tree in trees():
+            spots = []
+            for node in ast.walk(tree):
+                if isinstance(node, ast.Call) and called(node) in ["len", "sorted"]:
+                    spots.extend(parts_of_a_set(node.args[0]))
+                if isinstance(node, ast.Compare):
+                    spots.extend([node.left] + node.comparators)
+            for node in ast.walk(tree):
+                if isinstance(node, ast.Call) and called(node) in ["set", "frozenset"]:
+                    self.assertIn(node, spots, f"{name}:{node.lineno}")
+                self.assertNotIsInstance(node, ast.Set, name)
 
     def test_names(self):
         for place, node in nodes():

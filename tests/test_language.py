@@ -99,6 +99,14 @@ def parts_of_a_set(node):
     return [node]
 
 
+def is_plain_value(node):
+    if isinstance(node, (ast.List, ast.Tuple)):
+        return all(is_plain_value(part) for part in node.elts)
+    if isinstance(node, ast.Dict):
+        return all(is_plain_value(part) for part in node.keys + node.values)
+    return isinstance(node, ast.Constant)
+
+
 def imports_of(tree):
     return [node for node in tree.body if isinstance(node, ast.ImportFrom)]
 
@@ -135,6 +143,45 @@ class LanguageTest(unittest.TestCase):
                 self.assertIsInstance(node.value, (int, str, bool, type(None)), place)
             if isinstance(node, ast.ListComp):
                 self.assertLessEqual(len(node.generators) + len(node.generators[0].ifs), 2, place)
+
+    def test_the_top_of_a_file(self):
+        for name, tree in trees():
+            self.assertIsNotNone(ast.get_docstring(tree), name)
+            bound = []
+            for node in tree.body[1:]:
+                place = f"{name}:{node.lineno}"
+                self.assertIsInstance(node, (ast.ImportFrom, ast.FunctionDef, ast.ClassDef, ast.Assign), place)
+                if isinstance(node, ast.Assign):
+                    self.assertIsInstance(node.targets[0], ast.Name, place)
+                    self.assertTrue(is_plain_value(node.value), place)
+                    for part in list(ast.walk(node.value))[1:]:
+                        self.assertNotIsInstance(part, (ast.List, ast.Dict), place)
+                    bound.append(node.targets[0].id)
+                if isinstance(node, (ast.FunctionDef, ast.ClassDef)):
+                    bound.append(node.name)
+            bound += [alias.name for node in imports_of(tree) for alias in node.names]
+            self.assertEqual(len(bound), len(set(bound)), name)
+
+    def test_a_class_stands_at_a_files_top_with_each_method_once(self):
+        for name, tree in trees():
+            for node in ast.walk(tree):
+                if isinstance(node, ast.ClassDef):
+                    self.assertIn(node, tree.body, name)
+                    methods = [part.name for part in node.body if isinstance(part, ast.FunctionDef)]
+                    self.assertEqual(len(methods), len(set(methods)), f"{name}:{node.lineno}")
+
+    def test_what_is_made_and_raised(self):
+        for place, node in nodes():
+            if isinstance(node, ast.Raise):
+                self.assertIsInstance(node.exc, ast.Call, place)
+            if isinstance(node, ast.FunctionDef) and node.name == "__init__":
+                self.assertFalse(any(isinstance(part, ast.Return) for part in ast.walk(node)), place)
+            if isinstance(node, ast.Call) and node.keywords:
+                self.assertIn(called(node), ["sorted", "min", "max", "sum", "enumerate", "zip"], place)
+
+    def test_escapes(self):
+        for path in sources():
+            self.assertNotRegex(path.read_text(), r"""\\[^nt\\'"]""", path.name)
 
     def test_functions_and_classes(self):
         for place, node in nodes():

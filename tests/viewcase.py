@@ -164,12 +164,12 @@ class ViewCase(unittest.TestCase):
         """Put twice is as once wherever it is promised. Tells where it is not promised: how often it is, and is not."""
         counts = {True: 0, False: 0}
         for source in sources:
-            for first in seens:
-                told, new = outcome(view, kind, source, first)
+            told_once = [outcome(view, kind, source, seen) for seen in seens]
+            for first, (told, new) in zip(seens, told_once):
                 if told == "refused":
                     continue
-                for second in seens:
-                    same = outcome(view, kind, new, second) == outcome(view, kind, source, second)
+                for second, once in zip(seens, told_once):
+                    same = outcome(view, kind, new, second) == once
                     if promised(source, first, second):
                         self.assertTrue(same, (source, first, second))
                     else:

@@ -1,0 +1,96 @@
+"""What the tests of texts share: how a text is read, and a slow machine that tells where a text can not be read on."""
+
+import itertools
+import re
+import unittest
+
+from putback.errors import NoKind, NoText
+from putback.kindnotes import read_kind, read_value
+
+PIECE = re.compile(r'-?[0-9]+|[a-z]+|"[^"]*"|[{}\[\]()<>:,]')
+
+
+class NoteCase(unittest.TestCase):
+    def no_text(self, read, text, place):
+        with self.assertRaises(NoText, msg=text) as caught:
+            read(text)
+        self.assertEqual(caught.exception.place, place, text)
+        self.assertIs(caught.exception.place.__class__, int)
+
+    def no_kind_text(self, text, place):
+        self.no_text(read_kind, text, place)
+
+    def no_value_text(self, kind, text, place):
+        self.no_text(lambda told: read_value(kind, told), text, place)
+
+    def no_kind(self, text):
+        with self.assertRaises(NoKind, msg=text):
+            read_kind(text)
+
+
+def pieces_in(text):
+    """The pieces of a text that has no fault in it."""
+    return PIECE.findall(text)
+
+
+def spaced(pieces):
+    """[43]'s blanks: the text of a kind or a value. Round brackets stand behind an either's name alone in these."""
+    text = ""
+    for ahead, piece in zip([""] + pieces, pieces):
+        joined = ahead in ["", "{", "[", "(", "<"] or piece in [",", ":", "]", "}", ")", ">", "("]
+        text += piece if joined else " " + piece
+    return text
+
+
+def expanded(grammar, stack):
+    """All stacks that come of this one, each with a piece on its top, or with nothing left at all."""
+    if not stack or stack[0] not in grammar:
+        return {stack}
+    told = set()
+    for form in grammar[stack[0]]:
+        told |= expanded(grammar, tuple(form) + stack[1:])
+    return told
+
+
+def begun(grammar, first):
+    return expanded(grammar, (first,))
+
+
+def moved(grammar, stacks, piece):
+    """The stacks behind one more piece: none where the piece can not stand there. NAME stands for every name."""
+    told = set()
+    for stack in stacks:
+        if stack and (stack[0] == piece or (stack[0] == "NAME" and piece.isalpha())):
+            told |= expanded(grammar, stack[1:])
+    return told
+
+
+def fault(grammar, first, pieces):
+    """The number of the first piece that can not stand, as many as there are where more is wanted, or None."""
+    stacks = begun(grammar, first)
+    for number, piece in enumerate(pieces):
+        stacks = moved(grammar, stacks, piece)
+        if not stacks:
+            return number
+    return None if () in stacks else len(pieces)
+
+
+def texts_near(grammar, first, alphabet, length):
+    """All rows of pieces up to the length of which all but the last one can stand."""
+    reached = [([], begun(grammar, first))]
+    while reached:
+        pieces, stacks = reached.pop()
+        yield pieces
+        if stacks and len(pieces) < length:
+            reached.extend([(pieces + [piece], moved(grammar, stacks, piece)) for piece in alphabet])
+
+
+def places(pieces, gaps):
+    """The text of the pieces with so many blanks ahead of each, in turn, and where each one begins."""
+    text, told = "", []
+    for piece, gap in zip(pieces, itertools.cycle(gaps)):
+        run = text[-1:].isalpha() and piece.isalpha() or text[-1:].isdigit() and piece.isdigit()
+        text += " " * max(gap, run)
+        told.append(len(text))
+        text += piece
+    return text, told

@@ -79,6 +79,9 @@ class Reader:
         piece = self.pieces[self.reached]
         return piece[0] == sort and piece[1] == thing
 
+    def is_of(self, sort):
+        return self.pieces[self.reached][0] == sort
+
     def taken(self, sort):
         piece = self.pieces[self.reached]
         if piece[0] != sort:

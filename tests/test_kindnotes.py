@@ -2,7 +2,7 @@
 
 import unittest
 
-from notecase import NoteCase, fault, pieces_in, places, spaced, texts_near
+from notecase import NoteCase, fault, pieces_in, places, spaced, texts_near, tight
 
 from putback.errors import NoKind, NoText, ViewError
 from putback.kindnotes import read_kind, written_kind
@@ -83,14 +83,6 @@ class ReadKindTest(NoteCase):
                          record_of([(name, W) for name in names]))
         for levels in (8, 9, 30):
             self.assertEqual(read_kind(written_kind(deep_kind(levels))), deep_kind(levels))
-
-
-def tight(pieces):
-    """The pieces with a blank only where two names would run into one."""
-    text = ""
-    for piece in pieces:
-        text += " " + piece if text[-1:].isalpha() and piece.isalpha() else piece
-    return text
 
 
 class NoKindTextTest(NoteCase):

@@ -99,12 +99,34 @@ def parts_of_a_set(node):
     return [node]
 
 
-def is_plain_value(node):
+def is_plain_value(node, functions):
+    """A plain value, or one made of plain values and of functions that are defined above."""
     if isinstance(node, (ast.List, ast.Tuple)):
-        return all(is_plain_value(part) for part in node.elts)
+        return all(is_plain_value(part, functions) for part in node.elts)
     if isinstance(node, ast.Dict):
-        return all(is_plain_value(part) for part in node.keys + node.values)
-    return isinstance(node, ast.Constant)
+        return all(is_plain_value(part, functions) for part in node.keys + node.values)
+    return isinstance(node, ast.Constant) or isinstance(node, ast.Name) and node.id in functions
+
+
+def kept_at_the_top(tree):
+    """The names of a file's top that are given a list or a dict."""
+    return [node.targets[0].id for node in tree.body if isinstance(node, ast.Assign)
+            and isinstance(node.value, (ast.List, ast.Dict))]
+
+
+def only_read(tree):
+    """The spots in which a list or dict of the top is read, copied or walked."""
+    spots = []
+    for node in ast.walk(tree):
+        if isinstance(node, ast.Subscript) and isinstance(node.ctx, ast.Load):
+            spots.append(node.value)
+        if isinstance(node, ast.Compare):
+            spots.extend(node.comparators)
+        if isinstance(node, (ast.For, ast.comprehension)):
+            spots.append(node.iter)
+        if isinstance(node, ast.Call) and called(node) in ["len", "list", "dict", "tuple", "sorted"]:
+            spots.extend(node.args[:1])
+    return spots
 
 
 def imports_of(tree):
@@ -153,7 +175,8 @@ class LanguageTest(unittest.TestCase):
                 self.assertIsInstance(node, (ast.ImportFrom, ast.FunctionDef, ast.ClassDef, ast.Assign), place)
                 if isinstance(node, ast.Assign):
                     self.assertIsInstance(node.targets[0], ast.Name, place)
-                    self.assertTrue(is_plain_value(node.value), place)
+                    above = [part.name for part in tree.body if isinstance(part, ast.FunctionDef) and part.lineno < node.lineno]
+                    self.assertTrue(is_plain_value(node.value, above), place)
                     for part in list(ast.walk(node.value))[1:]:
                         self.assertNotIsInstance(part, (ast.List, ast.Dict), place)
                     bound.append(node.targets[0].id)
@@ -161,6 +184,13 @@ class LanguageTest(unittest.TestCase):
                     bound.append(node.name)
             bound += [alias.name for node in imports_of(tree) for alias in node.names]
             self.assertEqual(len(bound), len(set(bound)), name)
+
+    def test_lists_and_dicts_of_the_top_are_only_read(self):
+        for name, tree in trees():
+            kept, spots = kept_at_the_top(tree), only_read(tree)
+            for node in ast.walk(tree):
+                if isinstance(node, ast.Name) and isinstance(node.ctx, ast.Load) and node.id in kept:
+                    self.assertIn(node, spots, f"{name}:{node.lineno}")
 
     def test_a_class_stands_at_a_files_top_with_each_method_once(self):
         for name, tree in trees():

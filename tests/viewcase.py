@@ -3,7 +3,7 @@
 import copy
 import unittest
 
-from putback.errors import CantPut, NoView
+from putback.errors import CantPut, NoView, ViewError
 from putback.kinds import either_of, record_of, rows_of
 from putback.values import misfit
 from putback.views import Chain, View
@@ -175,3 +175,11 @@ class ViewCase(unittest.TestCase):
                     else:
                         counts[same] += 1
         return counts
+
+
+def told_or_refused(ask, *given):
+    """What is told, or the refusal's class with what it tells: its way, its number, its place."""
+    try:
+        return ("told", ask(*given))
+    except ViewError as e:
+        return (e.__class__.__name__, list(vars(e).values()))

@@ -36,6 +36,13 @@ def put_inner(ahead, inner, kind, source, seen):
         raise CantPut(ahead + e.way) from None
 
 
+def seen_along(steps, kinds, source):
+    shown = [source]
+    for number, step in enumerate(steps):
+        shown.append(step.see(kinds[number], shown[number]))
+    return shown
+
+
 class View:
     def behind(self, kind):
         return kind
@@ -84,17 +91,14 @@ class Chain(View):
         return kinds
 
     def seen_row(self, kind, source):
-        kinds = self.kinds_row(kind)
-        shown = [source]
-        for number, step in enumerate(self.steps):
-            shown.append(step.see(kinds[number], shown[number]))
-        return shown
+        return seen_along(self.steps, self.kinds_row(kind), source)
 
     def put_row(self, kind, source, seen):
         if len(self.steps) == 0:
             ask_fit(kind, seen)
         kinds = self.kinds_row(kind)
-        shown = self.seen_row(kind, source)
+        # Each step puts on what it looks at, so nobody asks what the last one shows.
+        shown = seen_along(self.steps[:-1], kinds, source)
         told = [seen]
         for number in range(len(self.steps) - 1, -1, -1):
             told = [put_inner([number], self.steps[number], kinds[number], shown[number], told[0])] + told

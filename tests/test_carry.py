@@ -3,7 +3,7 @@
 import copy
 import unittest
 
-from viewcase import N, ROW, ROWS, W, ViewCase, told_or_refused
+from viewcase import N, ROW, ROWS, ViewCase, told_or_refused
 from viewpool import BY_WORD, LINKED, PAIR, SHAPE, SOURCES, TREE, VIEWS, chains, changed, pair, picked, right, row
 
 from putback.carry import carried_back, carried_on, rows_back, rows_on, steps_back

@@ -4,7 +4,7 @@ import copy
 import unittest
 
 from viewcase import N, ONE_OF_EACH, ROW, ROWS, THINGS, W, ViewCase, spoiled, told_or_refused
-from viewpool import LINKED, NEST, PAIR, SHAPE, SOURCES, TREE, VIEWS, chains, changed, pair, picked, right, row
+from viewpool import LINKED, NEST, SHAPE, SOURCES, TREE, VIEWS, chains, changed, pair, picked, right, row
 
 from putback.choices import Case, Choose
 from putback.desk import Desk

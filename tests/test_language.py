@@ -137,6 +137,21 @@ def module_file(node):
     return node.module.partition(".")[2] + ".py"
 
 
+def spots_of_classes(tree):
+    """Where a class may stand: called, as a base, by isinstance, by except."""
+    spots = []
+    for node in ast.walk(tree):
+        if isinstance(node, ast.ClassDef):
+            spots.extend(node.bases)
+        if isinstance(node, ast.ExceptHandler):
+            spots.append(node.type)
+        if isinstance(node, ast.Call):
+            spots.append(node.func)
+        if isinstance(node, ast.Call) and called(node) == "isinstance":
+            spots.extend(node.args[1].elts if isinstance(node.args[1], ast.Tuple) else node.args[1:])
+    return spots
+
+
 class LanguageTest(unittest.TestCase):
     def test_files(self):
         for path in PACKAGE.iterdir():
@@ -267,6 +282,30 @@ class LanguageTest(unittest.TestCase):
             if isinstance(node, ast.Attribute) and isinstance(node.ctx, ast.Store):
                 stored.append(node.attr)
         self.assertEqual(set(methods) & set(stored), set())
+
+    def test_classes_are_neither_kept_nor_handed_on(self):
+        classes = [node.name for name, tree in trees() for node in tree.body if isinstance(node, ast.ClassDef)]
+        for name, tree in trees():
+            spots = spots_of_classes(tree)
+            for node in ast.walk(tree):
+                if isinstance(node, ast.Name) and node.id in classes:
+                    self.assertIn(node, spots, f"{name}:{node.lineno}")
+
+    def test_methods_are_called_where_they_stand(self):
+        own = [part.name for name, tree in trees() for node in tree.body if isinstance(node, ast.ClassDef)
+               for part in node.body if isinstance(part, ast.FunctionDef)]
+        for name, tree in trees():
+            calls = [node.func for node in ast.walk(tree) if isinstance(node, ast.Call)]
+            for node in ast.walk(tree):
+                if isinstance(node, ast.Attribute) and isinstance(node.ctx, ast.Load) and node.attr in METHODS + own:
+                    self.assertIn(node, calls, f"{name}:{node.lineno}")
+
+    def test_what_is_imported_is_used(self):
+        for name, tree in trees():
+            used = [node.id for node in ast.walk(tree) if isinstance(node, ast.Name)]
+            for node in imports_of(tree):
+                for alias in node.names:
+                    self.assertIn(alias.name, used, name)
 
     def test_annotations(self):
         for place, node in nodes():
